@@ -1,0 +1,1 @@
+"""Woolyears: sacks of wool promised years ahead."""
