@@ -13,7 +13,7 @@ CLIPS = ((3, 0, 12), (4, 1, 9), (0, 999, 5))
 PROMISES = ((0, 0, 0, 4, 10, 250), (7, 2, 19, 19, 1, 0), (3, 1, 2, 3, 99, 1000000))
 SALES = ((0, 0, 1, 4, 1), (0, 1, 2, 3, 2), (0, 0, 2, 6, 4), (2, 3, 7, 99, 3), (1, 7, 0, 1, 19))
 BOOK = (CLIPS, PROMISES, SALES)
-SALE_ON_TEN = (0, 0, 1, 10, 0)
+TOO_EARLY = (0, 0, 1, 10, 0)
 TEN_A_YEAR = ((0, 0, 2, 6, 10, 5),)
 
 
@@ -380,7 +380,7 @@ class Own(Case):
     def test_asked_again_the_same_is_told(self):
         for _ in range(3):
             self.assertIsNone(first_unheld(PROMISES, SALES))
-            self.assertEqual(first_unheld(TEN_A_YEAR, (SALE_ON_TEN,)), 0)
+            self.assertEqual(first_unheld(TEN_A_YEAR, (TOO_EARLY,)), 0)
             self.assertEqual(holdings(BOOK, 0, 4), [(1, 1), (2, 9)])
             self.refused(NoBook, holdings, None, 0, 4)
 
