@@ -4,7 +4,7 @@ import copy
 import itertools
 import unittest
 
-from tests.strange import HUGE, STRANGE, Case, put, resized, spoiled
+from tests.common import HUGE, STRANGE, Case, put, resized, spoiled, tables_behind
 from woolyears.books import are_clips, are_promises, first_unheld, holdings, is_book
 from woolyears.errors import NoBook, NoNumber, NoPromises, NoSales, NoYear
 
@@ -193,22 +193,6 @@ class Sales(Case):
     def test_promises_are_looked_at_first(self):
         self.refused(NoPromises, first_unheld, list(PROMISES), list(SALES))
         self.refused(NoPromises, first_unheld, None, SALES * 3)
-
-
-def tables_behind(promises, sales):
-    """Another reckoning: what each has of each promise in each year, and the first sale that doesn't hold."""
-    tables = []
-    for holder, _, first, last, sacks, _ in promises:
-        tables.append({year: {holder: sacks} for year in range(first, last + 1)})
-    for at, (number, seller, buyer, sacks, year) in enumerate(sales):
-        table = tables[number]
-        rows = [table[late] for late in table if late >= year]
-        if year not in table or seller == buyer or any(row.get(seller, 0) < sacks for row in rows):
-            return tables, at
-        for row in rows:
-            row[seller] -= sacks
-            row[buyer] = row.get(buyer, 0) + sacks
-    return tables, None
 
 
 class Reckoned(Case):

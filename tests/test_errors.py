@@ -1,6 +1,5 @@
 """The refusals, as the interface names them."""
 
-import inspect
 import unittest
 
 from woolyears import errors
@@ -23,10 +22,6 @@ class Errors(unittest.TestCase):
     def test_no_two_are_one(self):
         kinds = {getattr(errors, name) for name in WITH_A_TEXT + ("TooMany",)}
         self.assertEqual(len(kinds), len(WITH_A_TEXT) + 1)
-
-    def test_nothing_else_is_an_error_there(self):
-        found = [name for name, kind in inspect.getmembers(errors, inspect.isclass)]
-        self.assertEqual(sorted(found), sorted(WITH_A_TEXT + ("TooMany", "WoolError")))
 
     def test_each_is_made_with_a_text(self):
         for name in WITH_A_TEXT + ("WoolError",):

@@ -13,8 +13,9 @@ OUTSIDE = (
 )
 OWN_NAMES = {
     "len", "range", "enumerate", "zip", "min", "max", "sum", "abs", "sorted", "reversed", "int", "str", "bool",
-    "bytes", "list", "tuple", "dict", "set", "isinstance", "ord", "repr", "any", "all", "divmod",
-    "ValueError", "KeyError", "IndexError", "LookupError", "ZeroDivisionError", "StopIteration",
+    "bytes", "list", "tuple", "dict", "set", "frozenset", "isinstance", "ord", "repr", "any", "all", "divmod",
+    "Exception", "ValueError", "TypeError", "KeyError", "IndexError", "LookupError", "ZeroDivisionError",
+    "ArithmeticError", "OverflowError", "RuntimeError", "NotImplementedError", "AttributeError", "StopIteration",
 }
 BARRED_WORDS = re.compile(
     r"\b(type|typing|typing_extensions|enum|Enum|IntEnum|StrEnum|Flag|IntFlag|Generic|Protocol|ABC|ABCMeta"
@@ -76,7 +77,7 @@ class Form(unittest.TestCase):
     def test_imports_are_the_packages_own(self):
         for text, tree in self.each():
             for node in ast.walk(tree):
-                if isinstance(node, ast.ImportFrom):
+                if isinstance(node, ast.ImportFrom) and node.module != "__future__":
                     self.assertEqual(node.level, 0)
                     self.assertTrue(node.module.startswith("woolyears."), node.module)
 

@@ -5,7 +5,7 @@ import itertools
 import unittest
 from fractions import Fraction
 
-from tests.strange import HUGE, STRANGE, Case, put, resized, spoiled
+from tests.common import HUGE, STRANGE, Case, parted_by_words, put, resized, spoiled
 from woolyears.errors import NoNumber, NoWeights
 from woolyears.parting import is_fair, parted
 
@@ -18,18 +18,6 @@ WIDE = [
     tuple(range(80, 0, -1)),
     tuple(1 + at * 37 % 99 for at in range(80)),
 ]
-
-
-def by_the_words(sacks, weights):
-    """Another reckoning: sack by sack to the greatest rest, looked for anew each time."""
-    shares = [Fraction(sacks * weight, sum(weights)) for weight in weights]
-    parts = [int(share) for share in shares]
-    rests = [share - part for share, part in zip(shares, parts)]
-    while sum(parts) < sacks:
-        at = rests.index(max(rests))
-        parts[at] += 1
-        rests[at] = Fraction(-1)
-    return tuple(parts)
 
 
 class Parted(Case):
@@ -66,15 +54,15 @@ class Parted(Case):
             self.assertEqual(parted(0, weights), (0,) * len(weights))
             self.assertEqual(parted(sum(weights), weights), weights)
 
-    def test_all_small_ones_by_the_words(self):
+    def test_all_small_ones_parted_by_words(self):
         for weights in SMALL:
             for sacks in range(sum(weights) + 1):
-                self.assertEqual(parted(sacks, weights), by_the_words(sacks, weights), (sacks, weights))
+                self.assertEqual(parted(sacks, weights), parted_by_words(sacks, weights), (sacks, weights))
 
-    def test_wide_ones_by_the_words(self):
+    def test_wide_ones_parted_by_words(self):
         for weights in WIDE:
             for sacks in range(0, sum(weights) + 1, 1 + sum(weights) // 50):
-                self.assertEqual(parted(sacks, weights), by_the_words(sacks, weights), (sacks, weights))
+                self.assertEqual(parted(sacks, weights), parted_by_words(sacks, weights), (sacks, weights))
 
     def test_none_gets_more_than_its_weight(self):
         for weights in SMALL + WIDE:
@@ -175,7 +163,7 @@ class Fair(Case):
         self.told(False, 10, (3, 5, 6), (2, 4, 4, 0))
         self.told(False, 2, (1, 1, 1), (1, 1))
 
-    def test_all_small_ones_by_the_words(self):
+    def test_all_small_ones_parted_by_words(self):
         for weights in ((1,), (1, 1), (1, 2), (3, 2), (1, 1, 1), (2, 1, 3), (1, 5, 2)):
             for sacks in range(sum(weights) + 1):
                 for thing in itertools.product(range(-2, sum(weights) + 2), repeat=len(weights)):

@@ -107,9 +107,13 @@ def is_book(thing):
     )
 
 
-def holdings(book, number, year):
-    if not is_book(book):
+def refuse_no_book(thing):
+    if not is_book(thing):
         raise NoBook("this is no book")
+
+
+def holdings(book, number, year):
+    refuse_no_book(book)
     clips, promises, sales = book
     if not is_whole_from(number, 0, len(promises) - 1):
         raise NoNumber("this is no number of a promise")
