@@ -7,9 +7,11 @@ import unittest
 from fractions import Fraction
 
 from woolyears.books import first_unheld
-from woolyears.errors import NoBook, NoYear
+from woolyears.errors import NoBook, NoYear, TooMany
 
 HUGE = 10**30 - 1
+# All signs that a text may have.
+SIGNS = "".join(chr(code) for code in range(32, 127) if chr(code) != chr(37)) + "\t\n"
 
 STRANGE = (
     None, True, False, 0, 1, -1, 7, HUGE, -HUGE, "", "0", "(1, 2, 3)", "a\tb\n~ ",
@@ -49,6 +51,14 @@ def no_whole_from(least, most):
     return wrong + [least - 2, least - 1, most + 1, most + 2]
 
 
+def one_sign_off(text):
+    """All texts that a text becomes by one sign put in, set or left out."""
+    found = [text[:at] + sign + text[at:] for at in range(len(text) + 1) for sign in SIGNS]
+    found += [text[:at] + sign + text[at + 1:] for at in range(len(text)) for sign in SIGNS]
+    found += [text[:at] + text[at + 1:] for at in range(len(text))]
+    return [other for other in found if other != text]
+
+
 # Of several years, sorts and sales; the third promise lies behind all clips.
 SAMPLE = (
     ((4, 1, 2), (0, 3, 9), (12, 0, 1)),
@@ -63,6 +73,9 @@ TURNS = (
 )
 UNHELD = SAMPLE[:2] + (((0, 0, 1, 7, 1),),)
 NO_BOOKS = list(STRANGE) + spoiled(SAMPLE) + resized(SAMPLE) + [UNHELD, put(SAMPLE, 0, ()), put(SAMPLE, 1, None)]
+SOME_CLIPS = ((10, 3, 7), (99, 100, 101), (1, 0, 999))
+NO_CLIPS = list(STRANGE) + spoiled(SOME_CLIPS) + [(), SOME_CLIPS * 7, ((3, 0, 1000),), ((-1, 0, 0),)]
+NO_CLIPS += [put(SOME_CLIPS, 1, row) for row in resized(SOME_CLIPS[1])]
 # Twenty years, ten promises, twelve sales, and wool so scarce that nearly all is owed to the end.
 GREATEST = (
     tuple((year % 2, 1, 2 - year % 3) for year in range(20)),
@@ -77,6 +90,13 @@ class Case(unittest.TestCase):
         with self.assertRaises(ValueError, msg=repr(handed)[:300]) as caught:
             asked(*handed)
         self.assertIs(type(caught.exception), kind, repr(handed)[:300])
+
+    def one_more_refused(self, many, most, asked, *handed):
+        """TooMany, and no class under it, with these numbers."""
+        with self.assertRaises(ValueError, msg=repr(handed)[:300]) as caught:
+            asked(*handed)
+        self.assertIs(type(caught.exception), TooMany, repr(handed)[:300])
+        self.assertEqual((caught.exception.many, caught.exception.most), (many, most))
 
     def all_told(self, wanted, asked, things):
         for thing in things:
@@ -243,3 +263,35 @@ def some_books(seed, many, most_years=6, most_sacks=99):
         sales = some_sales(dice, promises, dice.one_of((0, 3, 12)))
         books.append((some_clips(dice, promises, years), promises, sales))
     return books
+
+
+def deeds_of(book, dice):
+    """The deeds, as names and what they are told, that make a book, in some order in which they may be told."""
+    rows = {"shear": list(book[0]), "pledge": list(book[1]), "sell": list(book[2])}
+    deeds, pledged = [], 0
+    while any(rows.values()):
+        may = [name for name in ("shear", "pledge") if rows[name]]
+        if rows["sell"] and rows["sell"][0][0] < pledged:
+            may.append("sell")
+        name = dice.one_of(may)
+        pledged += name == "pledge"
+        deeds.append((name, rows[name].pop(0)))
+    return deeds
+
+
+def turned_by_words(before, after):
+    """The least year whose gifts are other ones in one book than in the other; a book may have no clips here."""
+    old = [year[0] for year in given_by_words(*before)]
+    new = [year[0] for year in given_by_words(*after)]
+    for year in range(max(len(old), len(new))):
+        if (old[year:year + 1] or [[]]) != (new[year:year + 1] or [[]]):
+            return year
+    return None
+
+
+def told_by_words(book, before):
+    """All that a keeper tells of a book, and by the deed that led to it from the one before, None where none did."""
+    years = given_by_words(*book)
+    owed = years[-1][1] if years else []
+    turned = None if before is None else turned_by_words(before, book)
+    return book, [year[0] for year in years], owed, sum(row[3] for row in owed), turned

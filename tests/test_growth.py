@@ -5,7 +5,7 @@ import unittest
 from fractions import Fraction
 
 from tests.common import (
-    GREATEST, HUGE, NO_BOOKS, SAMPLE, STRANGE, Case, given_by_words, no_whole_from, put, resized, some_books, spoiled,
+    GREATEST, HUGE, NO_BOOKS, NO_CLIPS, SAMPLE, Case, given_by_words, no_whole_from, put, some_books,
 )
 from woolyears.books import are_clips, first_unheld
 from woolyears.errors import NoBook, NoClips, NoGrowth, NoNumber
@@ -13,8 +13,6 @@ from woolyears.growth import grown_to, met_by, too_many
 
 CLIPS = ((3, 0, 12), (4, 150, 9))
 MANY = some_books(60, 60, 5, 40)
-NO_CLIPS = list(STRANGE) + spoiled(CLIPS) + [(), CLIPS[:1] * 21, ((3, 0, 1000),), ((-1, 0, 0),)]
-NO_CLIPS += [put(CLIPS, 1, row) for row in resized(CLIPS[1])]
 
 # One sack a year, due a hundred in two years: all is met by year 99 just so.
 HUNDRED = (((1, 0, 0),), ((0, 0, 0, 1, 50, 1),), ())

@@ -1,6 +1,6 @@
 """Clips, promises, sales: the books, and who has sacks of a promise."""
 
-from woolyears.errors import NoBook, NoNumber, NoPromises, NoSales, NoYear
+from woolyears.errors import NoBook, NoClips, NoNumber, NoPromises, NoSales, NoYear, TooMany
 from woolyears.wholes import are_wholes, is_tuple_of, is_whole_from
 
 SORTS = 3
@@ -23,6 +23,11 @@ def are_clips(thing):
     return is_tuple_of(thing, 1, MOST_CLIPS) and all([is_clip(part) for part in thing])
 
 
+def refuse_no_clips(thing):
+    if not are_clips(thing):
+        raise NoClips("these are no clips")
+
+
 def is_promise(thing):
     if not are_wholes(thing, 6):
         return False
@@ -43,6 +48,12 @@ def are_promises(thing):
 def are_sales(thing):
     """Whether they have the form of sales; whether they hold hangs on the promises."""
     return is_tuple_of(thing, 0, MOST_SALES) and all([are_wholes(part, 5) for part in thing])
+
+
+def refuse_one_more(rows, most):
+    """Refuses that one is put behind rows that are as many as there may be."""
+    if len(rows) >= most:
+        raise TooMany(len(rows) + 1, most)
 
 
 def held_in(promises, sales, number, year):

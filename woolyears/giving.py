@@ -85,11 +85,20 @@ def years_given(book, year):
     return years
 
 
+def gifts_by_year(book):
+    """The list of the gifts of each year of the clips, of which there may be none."""
+    return [gifts for gifts, owed, left in years_given(book, len(book[0]) - 1)]
+
+
+def refuse_no_year_of(clips, year):
+    if not is_whole_from(year, 0, len(clips) - 1):
+        raise NoYear("this is no year of the clips")
+
+
 def refuse_no_year(book, year):
     """Refuses what is no book, then what is no year of its clips."""
     refuse_no_book(book)
-    if not is_whole_from(year, 0, len(book[0]) - 1):
-        raise NoYear("this is no year of the clips")
+    refuse_no_year_of(book[0], year)
 
 
 def gifts_in(book, year):

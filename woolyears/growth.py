@@ -1,7 +1,7 @@
 """Clips that grow, by which year all is met, and which promise is one too many."""
 
-from woolyears.books import are_clips, refuse_no_book
-from woolyears.errors import NoClips, NoGrowth, NoNumber
+from woolyears.books import refuse_no_book, refuse_no_clips
+from woolyears.errors import NoGrowth, NoNumber
 from woolyears.giving import years_given
 from woolyears.wholes import is_whole_from
 
@@ -23,8 +23,7 @@ def grown(clips, growth, years):
 
 
 def grown_to(clips, growth, years):
-    if not are_clips(clips):
-        raise NoClips("these are no clips")
+    refuse_no_clips(clips)
     refuse_no_growth(growth)
     if not is_whole_from(years, len(clips), MOST_YEARS):
         raise NoNumber("the clips can't grow to so many years")

@@ -25,8 +25,8 @@ def places_by_rest(rests):
     return [at for minus, at in ranked]
 
 
-def parted(sacks, weights):
-    refuse_unpartable(sacks, weights)
+def parts_of(sacks, weights):
+    """The tuple of what each weight gets, of however many sacks."""
     together = sum(weights)
     parts = [sacks * weight // together for weight in weights]
     rests = [sacks * weight % together for weight in weights]
@@ -34,6 +34,11 @@ def parted(sacks, weights):
     for at in places_by_rest(rests)[:left]:
         parts[at] += 1
     return tuple(parts)
+
+
+def parted(sacks, weights):
+    refuse_unpartable(sacks, weights)
+    return parts_of(sacks, weights)
 
 
 def is_fair(sacks, weights, thing):
